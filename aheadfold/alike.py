@@ -35,10 +35,11 @@ def coloured(near, far, ones, others):
         if sorted(one_looks) != sorted(other_looks):
             return None
         numbers = {look: at for at, look in enumerate(sorted(set(one_looks)))}
-        if len(numbers) == len(set(ones)):
-            return ones, others
+        known = len(set(ones))
         ones = [numbers[look] for look in one_looks]
         others = [numbers[look] for look in other_looks]
+        if len(numbers) == known:
+            return ones, others
 
 
 def with_colour(colours, room, colour):
@@ -53,7 +54,9 @@ def naming(one, other):
         return None
     near = neighbours(one)
     far = neighbours(other)
-    waiting = [((), [0] * rooms, [0] * rooms)]
+    # At first the colour of a room is how many arrows lead from it to itself.
+    waiting = [((), [one.leading(room, room) for room in range(rooms)],
+                [other.leading(room, room) for room in range(rooms)])]
     tried = 0
     while len(waiting) > 0:
         names, ones, others = waiting.pop()

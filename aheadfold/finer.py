@@ -6,49 +6,23 @@ from aheadfold.judging import head, tail, way_back
 from aheadfold.webs import MOST_ARROWS, MOST_ROOMS, MOST_ROWS, Web
 
 
-def looked_at(reader):
-    """The triples (row, arrow made, room in which that arrow begins) of a table."""
-    other = reader.other()
-    return [(row, arrow, other.begin(arrow)) for row, arrow in reader.table().items()]
-
-
-def fine_rooms(reader, many):
-    """The rooms of the finer web: triples (end, room of the second web, so many arrows made).
-
-    Each tells what a walk is at first: its end for the reader, the room in
-    which what is made begins, and so many arrows of it.
-    """
-    web = reader.web()
-    seen = looked_at(reader)
-    rooms = sorted(set([(head(web, row), begin, ()) for row, arrow, begin in seen]))
-    need_few(rooms, MOST_ROOMS)
-    for step in range(many):
-        rooms = sorted(set([
-            (head(web, row), begin, (arrow,) + made)
-            for row, arrow, begin in seen for end, place, made in rooms if end == tail(web, row)]))
-        # More arrows made never tell fewer walks apart, so that there is no need to go on.
-        need_few(rooms, MOST_ROOMS)
-    return rooms
-
-
 def need_few(things, most):
     """Refuse more things than a web has."""
     if len(things) > most:
         raise TooMany(most)
 
 
-def fine_arrows(reader, many, rooms):
-    """The arrows of the finer web, rising: (first arrow, arrow made, room where it begins, room where it ends)."""
+def fine_steps(reader):
+    """The arrows of the finer web, one for each row of the table: (row, arrow made, begin, end).
+
+    A room of it is a pair, an end and the room in which what is made behind
+    it begins. That is enough: as the reader is one to one, the end behind a
+    row and the arrow made of it tell the row.
+    """
     web = reader.web()
-    numbers = {room: at for at, room in enumerate(rooms)}
-    arrows = []
-    for row, arrow, begin in looked_at(reader):
-        for end, place, made in rooms:
-            if end == tail(web, row):
-                source = (head(web, row), begin, ((arrow,) + made)[:many])
-                arrows.append((row[0], arrow, numbers[source], numbers[(end, place, made)]))
-    need_few(arrows, MOST_ARROWS)
-    return sorted(arrows)
+    other = reader.other()
+    return [(row, arrow, (head(web, row), other.begin(arrow)), (tail(web, row), other.end(arrow)))
+            for row, arrow in reader.table().items()]
 
 
 def descent_to(web, places, labels):
@@ -63,20 +37,26 @@ def descent_to(web, places, labels):
     return first, folds, (rooms, list(range(small)))
 
 
+def first_rooms(web, rooms):
+    """For each room of the finer web the room of the first web in which its walks begin."""
+    return [end if isinstance(end, int) else web.begin(end[0]) for end, place in rooms]
+
+
 def finer(reader):
     """A finer paper of a reader that has a way back."""
-    many = way_back(reader).window() - 1
+    way_back(reader)
     least = reader.least()
-    rooms = fine_rooms(least, many)
-    arrows = fine_arrows(least, many, rooms)
-    web = Web(len(rooms), [(begin, end) for near, far, begin, end in arrows])
+    steps = fine_steps(least)
+    rooms = sorted(set([begin for row, arrow, begin, end in steps]))
+    need_few(rooms, MOST_ROOMS)
+    need_few(steps, MOST_ARROWS)
+    numbers = {room: at for at, room in enumerate(rooms)}
+    web = Web(len(rooms), [(numbers[begin], numbers[end]) for row, arrow, begin, end in steps])
     if web.many(least.window()) > MOST_ROWS:
         raise TooMany(MOST_ROWS)
-    source = least.web()
-    nears = [end if isinstance(end, int) else source.begin(end[0]) for end, place, made in rooms]
-    fars = [place for end, place, made in rooms]
-    return (web, descent_to(web, nears, [arrow[0] for arrow in arrows]),
-            descent_to(web, fars, [arrow[1] for arrow in arrows]))
+    near = descent_to(web, first_rooms(least.web(), rooms), [row[0] for row, arrow, begin, end in steps])
+    far = descent_to(web, [place for end, place in rooms], [arrow for row, arrow, begin, end in steps])
+    return web, near, far
 
 
 def leads_to(web, descent, goal):

@@ -74,15 +74,14 @@ def fold_codes(web, one, other):
     back = {}
     for row in small.rows(2):
         elder = kept[row[0]]
-        # Only the room in which the next arrow began tells which of the two rooms was meant.
-        split_there = elder in youngers and web.begin(kept[row[1]]) == other
-        back[row] = youngers[elder] if split_there else elder
+        # The room in which the next arrow began tells which of the two rooms was meant.
+        back[row] = youngers[elder] if web.begin(kept[row[1]]) == other else elder
     there = {(arrow,): image for arrow, image in enumerate(fold_images(web, one, other))}
     return Reader(web, small, 1, there), Reader(small, web, 2, back).least()
 
 
 def need_part(web, room, part):
-    """Refuse a part that is not some, but not all, of the arrows out of a room, each once."""
+    """Refuse what is no room, then what is not some, but not all, of the arrows out of it, each once."""
     outs = web.outs(room)
     strange = [arrow for arrow in part if arrow not in outs]
     if len(strange) > 0 or len(set(part)) != len(part) or not 0 < len(part) < len(outs):
@@ -91,7 +90,6 @@ def need_part(web, room, part):
 
 def split(web, room, part):
     """The web in which a part of the arrows out of a room begins in a new one."""
-    web.need_room(room)
     need_part(web, room, part)
     if web.rooms() >= MOST_ROOMS:
         raise TooMany(MOST_ROOMS)
@@ -143,10 +141,9 @@ def folded(web, folds):
 
 
 def images_of(web, folds):
-    """For each arrow its number in the web behind a row of folds."""
+    """For each arrow its number in the web behind a row of folds, which is known to be one."""
     images = list(range(len(web)))
     for one, other in folds:
-        need_fold(web, one, other)
         numbers = fold_images(web, one, other)
         images = [numbers[image] for image in images]
         web = fold(web, one, other)

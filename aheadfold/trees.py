@@ -81,17 +81,19 @@ def grown(one, other, most):
     return "tries", room, tries_below(ones, others, {}, room, count)
 
 
-def is_room(thing, rooms):
-    """Whether a thing of a tree is a room, of so many rooms."""
-    return isinstance(thing, int) and 0 <= thing < rooms
+def is_named(thing, names):
+    """Whether a thing of a tree is a room that is named."""
+    return isinstance(thing, int) and thing in names
+
+
+def is_nameless(thing, names, rooms):
+    """Whether a thing of a tree is a room, of so many rooms, that is not named yet."""
+    return isinstance(thing, int) and 0 <= thing < rooms and thing not in names
 
 
 def apart_holds(ones, others, names, tree):
     """Whether what stands behind the word of such a tree are rooms that are named and apart."""
-    rooms = len(ones)
-    if not is_room(tree[1], rooms) or not is_room(tree[2], rooms):
-        return False
-    if tree[1] not in names or tree[2] not in names:
+    if not is_named(tree[1], names) or not is_named(tree[2], names):
         return False
     return is_apart(ones, others, names, tree[1], tree[2])
 
@@ -99,7 +101,7 @@ def apart_holds(ones, others, names, tree):
 def tries_hold(ones, others, names, tree):
     """Whether what stands behind the word of such a tree is a room without a name, and a tree for each."""
     room = tree[1]
-    if not is_room(room, len(ones)) or room in names:
+    if not is_nameless(room, names, len(ones)):
         return False
     if not isinstance(tree[2], tuple) or len(tree[2]) != len(others):
         return False

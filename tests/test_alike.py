@@ -193,6 +193,7 @@ class Alike(Case):
         else:
             word, folds, more, tree = paper
             self.assertIs(type(tree), tuple)
+            self.assertLessEqual(len(trees_in(tree)), MOST_TREE)
         for row in (folds, more):
             self.assertIs(type(row), list)
             self.assertTrue(all(type(pair) is tuple for pair in row))
@@ -387,10 +388,12 @@ class Holding(Case):
 
     def bent_trees(self, tree):
         found = list(STRANGE_TREES)
+        found += [("tries", room, (tree,) * many) for room in range(-1, 7) for many in range(1, 6)]
         inner = trees_in(tree)
         for way, below in inner[:40]:
             found += [with_tree(tree, way, strange) for strange in STRANGE_TREES]
             found.append(with_tree(tree, way, inner[-1][1]))
+            found += [with_tree(tree, way, (word,) + below[1:]) for word in ("", "try", "many", "tries", "apart", 0)]
             if below[0] == "apart":
                 found += [with_tree(tree, way, ("apart", below[2], below[1])),
                           with_tree(tree, way, ("apart", below[1], below[1])),

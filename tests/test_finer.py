@@ -10,8 +10,8 @@ from aheadfold.folds import fold_codes, folds_of, named, named_codes, split, spl
 from aheadfold.judging import way_back
 from aheadfold.readers import joined, same
 from aheadfold.webs import Web
-from helpers import (ROWS_600_OF_6, ROWS_601_OF_2, THREE, TWO, Case, Chance, exchanged, exchanging, ones_ahead,
-                     reader_by, rule_reader, slow_down, slow_named, turning, wider, with_thing)
+from helpers import (ROWS_600_OF_6, ROWS_601_OF_2, THREE, TWO, Case, Chance, exchanged, exchanging, loops,
+                     ones_ahead, reader_by, rule_reader, slow_down, slow_named, turning, wider, with_thing)
 
 GOLDEN = Web(2, [(0, 0), (0, 1), (1, 0)])
 RING = Web(2, [(0, 1), (1, 0)])
@@ -153,6 +153,12 @@ class Finer(Case):
             self.may_be_refused(reader)
         for many in range(3, 12):
             self.may_be_refused(exchanging(Web(1, [(0, 0)] * many), 0, 1, [2]))
+        for counts in ([3] + [2] * 59, [3] + [2] * 45, [5, 3] + [4] * 23, [4] * 25, [7, 6, 3, 2] + [1] * 7):
+            self.may_be_refused(exchanging(Web(*loops(*counts)), 0, 1, [2]))
+        # Just 600 rows of two arrows of the web that is built.
+        web = Web(*loops(7, 6, 3, 2, 1, 1, 1, 1, 1, 1))
+        self.assertEqual(web.many(3), 600)
+        self.holds(exchanging(web, 0, 1, [2]))
 
     def test_just_a_hundred_rows(self):
         # Loops of their own: as many rows of each length as loops, and w and b are one.

@@ -335,6 +335,10 @@ class Papers(Case):
         self.assertIs(sets_hold(reader, paper + [(-1, (0,))]), False)
         self.assertIs(sets_hold(reader, paper + [(1, (0,))]), False)
         self.assertIs(sets_hold(reader, paper + [(0, (0, 1))]), True)
+        # The same ends out of order or twice, though all that comes of them is there.
+        for ends in ((1, 0), (0, 0), (0, 1, 1), (0, 0, 1), (0, 1, 0), [1, 0]):
+            self.assertIs(sets_hold(reader, paper + [(0, ends)]), False)
+            self.assertIs(sets_hold(reader, [(0, ends)] + paper), False)
         self.assertIs(sets_hold(reader, paper + [(0, (0, 1)), (1, (0, 1))]), True)
 
     def test_bent_papers(self):
@@ -477,6 +481,8 @@ class WaysBack(Case):
         # Three arrows have 729 rows of six, and no way back of six is tried.
         self.assertEqual(way_back(ones_ahead(4, 3)).window(), 5)
         self.refused(TooMany, {"most": 600}, way_back, ones_ahead(5, 3))
+        # That is told as soon as it is so, even where six would not be enough.
+        self.refused(TooMany, {"most": 600}, way_back, ones_ahead(6, 3))
 
     def test_six_hundred_rows(self):
         for told, refused in ((ROWS_600_OF_2, False), (ROWS_601_OF_2, True)):
