@@ -413,7 +413,7 @@ class Holding(Case):
     def test_many(self):
         self.assertIs(alike_holds(GOLDEN, TWO, ("unlike", [], [], ("many",))), True)
         self.assertIs(alike_holds(TWO, THREE, ("unlike", [], [], ("many",))), False)
-        # One room cannot be named after two, so that it is apart from none of its names.
+        # Where the counts of rooms are unlike, other trees may hold, too.
         self.assertIs(alike_holds(TWO, GOLDEN, ("unlike", [], [], ("tries", 0, (("many",), ("many",))))), True)
         self.assertIs(alike_holds(TWO, GOLDEN, ("unlike", [], [], ("tries", 0, (("apart", 0, 0),) * 2))), True)
         self.assertIs(alike_holds(ONE, GOLDEN, ("unlike", [], [], ("tries", 0, (("apart", 0, 0),) * 2))), False)
