@@ -7,6 +7,7 @@ import unittest
 from aheadfold.errors import BadTable
 from aheadfold.folds import fold, folds_of, named, split
 from aheadfold.readers import Reader
+from aheadfold.store import Store
 from aheadfold.walkers import Walker
 from aheadfold.webs import Web
 
@@ -277,3 +278,52 @@ def with_thing(row, at, thing):
     told = list(row)
     told[at] = thing
     return type(row)(told)
+
+
+SAMPLE = (
+    ("web", "a", 2, [(0, 0), (0, 1), (1, 0)]),
+    ("web", "b", 1, [(0, 0), (0, 0)]),
+    ("web", "c", 1, [(0, 0), (0, 0)]),
+    ("reader", "ab", "a", "b", "look 1\n1 -> 1\n* -> 0"),
+    ("reader", "ba", "b", "a", "look 3\n1 0 * -> 2\n* 1 0 -> 1\n* * * -> 0"),
+    ("reader", "aa", "a", "a", "look 2\n* b1 -> 2\n* e1 -> 1\n* * -> 0"),
+    ("reader", "bc", "b", "c", "look 1\n0 -> 1\n* -> 0"),
+    ("walker", "wa", "a", [0, 0], [1, 2, 1, 2, 0]),
+    ("walker", "wb", "b", [], [0, 1, 1]),
+    ("walker", "wc", "c", [1], [0]),
+)
+
+
+def sample(*more):
+    """A store of three webs, two of them equal, with readers and walkers, and what more deeds make of it."""
+    store = Store()
+    for deed in SAMPLE + more:
+        store.do(deed)
+    return store
+
+
+def things(store):
+    """All that a store tells of its things."""
+    told = {}
+    for name, kind in store.names():
+        if kind == "web":
+            told[name] = (kind, store.web(name).rooms(), store.web(name).arrows())
+        elif kind == "reader":
+            reader = store.reader(name)
+            webs = [(web.rooms(), web.arrows()) for web in (reader.web(), reader.other())]
+            told[name] = (kind, store.ends(name), reader.window(), reader.table(), webs)
+        else:
+            walker = store.walker(name)
+            home = (walker.web().rooms(), walker.web().arrows())
+            told[name] = (kind, store.goes_in(name), walker.ahead(), walker.ring(), home)
+    return told
+
+
+def state(store):
+    """All that a store tells, with its steps."""
+    return things(store), store.steps(), repr(store), len(store)
+
+
+def tupled(thing):
+    """Tuples for lists, all the way down."""
+    return tuple(tupled(part) for part in thing) if isinstance(thing, (list, tuple)) else thing

@@ -1,6 +1,7 @@
 """The plainest rules for how the package is written: sizes, signs, words, names, imports."""
 
 import ast
+import builtins
 import pathlib
 import re
 import unittest
@@ -56,6 +57,23 @@ class Written(unittest.TestCase):
                    if isinstance(part, ast.FunctionDef)}
         attributes = {node.attr for name, node in nodes(ast.Attribute) if isinstance(node.ctx, ast.Store)}
         self.assertEqual(methods & attributes, set())
+
+    def test_no_name_hides_an_import_a_class_or_a_builtin(self):
+        for path in FILES:
+            tree = ast.parse(path.read_text())
+            barred = set(dir(builtins)) | {node.name for node in tree.body if isinstance(node, ast.ClassDef)} | {
+                part.name for node in tree.body if isinstance(node, ast.ImportFrom) for part in node.names}
+            for node in ast.walk(tree):
+                if isinstance(node, ast.arg):
+                    self.assertNotIn(node.arg, barred, path.name)
+                if isinstance(node, ast.Name) and isinstance(node.ctx, ast.Store):
+                    self.assertNotIn(node.id, barred, path.name)
+
+    def test_asking_methods_assign_nothing(self):
+        for name, node in nodes(ast.FunctionDef):
+            if node.name in UNDERSCORED[1:]:
+                kinds = (ast.Assign, ast.AugAssign, ast.AnnAssign, ast.Delete)
+                self.assertFalse(any(isinstance(part, kinds) for part in ast.walk(node)), (name, node.name))
 
     def test_no_generators_where_lists_are_due(self):
         for name, node in nodes(ast.Call):
